@@ -88,27 +88,32 @@ func connSpoilers(out *impl.ConnOut, want impl.ConnOut) []func() {
 	})
 }
 
-// TestConnMemory: no argument is changed, and an answer shares no memory with
+// memoryIsItsOwn: no argument is changed, and an answer shares no memory with
 // one, nor two lists of one answer with each other.
+func memoryIsItsOwn(t *testing.T, c connCall, right conn) {
+	t.Helper()
+	want := c.do(connCopy(right))
+	arg := withSpareConn(right)
+	out := c.do(arg)
+	argumentStays(t, c.what, arg, right)
+	for i := range len(connSpoilers(&out, want)) {
+		out = c.do(arg)
+		connSpoilers(&out, want)[i]()
+		connIs(t, c.what+", one list spoilt", out, want)
+		argumentStays(t, c.what+", one list of the answer spoilt", arg, right)
+	}
+	out = c.do(arg)
+	spoilt := impl.ConnOut{Conn: arg}
+	for _, spoilOne := range connSpoilers(&spoilt, impl.ConnOut{Conn: right}) {
+		spoilOne()
+	}
+	connIs(t, c.what+", the argument spoilt", out, want)
+}
+
 func TestConnMemory(t *testing.T) {
 	for _, right := range rightConns() {
 		for _, c := range connMemoryCalls(right) {
-			want := c.do(connCopy(right))
-			arg := withSpareConn(right)
-			out := c.do(arg)
-			argumentStays(t, c.what, arg, right)
-			for i := range len(connSpoilers(&out, want)) {
-				out = c.do(arg)
-				connSpoilers(&out, want)[i]()
-				connIs(t, c.what+", one list spoilt", out, want)
-				argumentStays(t, c.what+", one list of the answer spoilt", arg, right)
-			}
-			out = c.do(arg)
-			spoilt := impl.ConnOut{Conn: arg}
-			for _, spoilOne := range connSpoilers(&spoilt, impl.ConnOut{Conn: right}) {
-				spoilOne()
-			}
-			connIs(t, c.what+", the argument spoilt", out, want)
+			memoryIsItsOwn(t, c, right)
 		}
 		arg := withSpareConn(right)
 		impl.ConnRight(arg)
@@ -117,8 +122,8 @@ func TestConnMemory(t *testing.T) {
 	}
 }
 
-// TestConnOfOneList hands in one list in the place of many.
-func TestConnOfOneList(t *testing.T) {
+// connOfOneList has one list in the place of many.
+func connOfOneList() conn {
 	c := midway()
 	things, late := c.Net[0].Back, []int64{6, 7, 9}
 	c.Net = net{{There: things, Back: things}, {There: things[:1], Back: things[1:]}}
@@ -126,18 +131,29 @@ func TestConnOfOneList(t *testing.T) {
 	c.Snd.Lines[0].Next = 9
 	c.Snd.Lines[1].Next = 12
 	c.Snd.Lines[1].Out = c.Snd.Lines[0].Out
-	same(t, "right", hasConnForm(c), true)
+	return c
+}
+
+// listsArePartedIn: what was one list in the argument is many in the answer.
+func listsArePartedIn(t *testing.T, x connCall, c conn) {
+	t.Helper()
 	before := connCopy(c)
+	want := x.do(connCopy(before))
+	out := x.do(c)
+	connIs(t, x.what, out, want)
+	for i := range len(connSpoilers(&out, want)) {
+		out = x.do(c)
+		connSpoilers(&out, want)[i]()
+		connIs(t, x.what+", one list spoilt", out, want)
+		same(t, x.what+": the argument stays", sameConn(c, before), true)
+	}
+}
+
+func TestConnOfOneList(t *testing.T) {
+	c := connOfOneList()
+	same(t, "right", hasConnForm(c), true)
 	for _, x := range connMemoryCalls(c) {
-		want := x.do(connCopy(before))
-		out := x.do(c)
-		connIs(t, x.what, out, want)
-		for i := range len(connSpoilers(&out, want)) {
-			out = x.do(c)
-			connSpoilers(&out, want)[i]()
-			connIs(t, x.what+", one list spoilt", out, want)
-			same(t, x.what+": the argument stays", sameConn(c, before), true)
-		}
+		listsArePartedIn(t, x, c)
 	}
 }
 
